@@ -15,23 +15,31 @@ type failure struct {
 }
 
 // Read reads a file and all files that it includes.
-func Read(files map[string]string, main string) (unit Unit, fault Fault, e api.Errno) {
-	defer func() {
-		if f, ok := recover().(failure); ok {
-			unit, fault, e = Unit{}, f.Fault, f.code
-		}
-	}()
+func Read(files map[string]string, main string) (Unit, Fault, api.Errno) {
 	if _, ok := files[main]; !ok {
 		return Unit{}, Fault{File: main}, ErrFile
 	}
 	r := reader{files: files}
+	if fault, e := r.read(main); e != api.OK {
+		return Unit{}, fault, e
+	}
+	return r.unit, Fault{}, api.OK
+}
+
+// read takes a file with all that it includes, or returns the first error.
+func (r *reader) read(main string) (fault Fault, e api.Errno) {
+	defer func() {
+		if f, ok := recover().(failure); ok {
+			fault, e = f.Fault, f.code
+		}
+	}()
 	var take func(name string)
 	take = func(name string) {
 		number := len(r.unit.Files)
 		r.unit.Files = append(r.unit.Files, name)
-		words, comments, at, e := Strip(files[name])
+		words, comments, at, e := Strip(r.files[name])
 		if e != api.OK {
-			panic(failure{Fault{name, at}, e})
+			r.fail(number, at, e)
 		}
 		closing := -1 // the index of the last word of the include command that is being read
 		for i, isWord := range merge(words, comments) {
@@ -55,7 +63,7 @@ func Read(files map[string]string, main string) (unit Unit, fault Fault, e api.E
 		}
 	}
 	take(main)
-	return r.unit, Fault{}, api.OK
+	return Fault{}, api.OK
 }
 
 // merge yields the indices of the words and of the comments of a file in the order of their offsets; with each one, whether it is that of a word.
