@@ -25,9 +25,10 @@ func reject(e api.Errno) { panic(found{Code: e}) }
 
 // attempt does some work, and returns the verdict with which it left, if it did.
 func attempt(work func()) (v api.Verdict, left bool) {
+	v, left = api.Verdict{Code: api.ErrState}, true // whatever else stops the work, it does not end as OK
 	defer func() {
 		if f, ok := recover().(found); ok {
-			v, left = api.Verdict(f), true
+			v = api.Verdict(f)
 		}
 	}()
 	work()
