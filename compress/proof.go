@@ -44,11 +44,11 @@ func listed(f api.Frame) ([]Item, api.Errno) {
 	if e != api.OK {
 		return nil, e
 	}
-	// Items would tell this, too, but behind an error of the letters.
-	if hasMandatory(f, labels) {
+	numbers, _, e := Numbers(letters)
+	// Items tells a label of a mandatory hypothesis, too, but only ErrCode of the letters comes behind it.
+	if e == api.ErrCode && hasMandatory(f, labels) {
 		return nil, api.ErrList
 	}
-	numbers, _, e := Numbers(letters)
 	if e != api.OK {
 		return nil, e
 	}

@@ -107,7 +107,10 @@ func TestVerdicts(t *testing.T) {
 		{"( ) A" + most + "D", verdict(api.ErrCode, 0)},
 		{"( ) A" + letters, verdict(api.ErrSize, 0)},
 		{"( ) Z" + letters, verdict(api.ErrSize, 0)},
-		{"( h ) A" + letters, verdict(api.ErrList, 0)},
+		{"( h ) A" + letters, verdict(api.ErrSize, 0)}, // an error of Read comes ahead of those of Items
+		{"( h ) Z" + letters, verdict(api.ErrSize, 0)},
+		{"( h h ) A" + letters, verdict(api.ErrList, 0)},
+		{"( h ) A" + letters[:len(letters)-1], verdict(api.ErrList, 0)},
 		{"( ) A" + most, verdict(api.ErrSteps, 0)},
 		{"( ) ?" + most, verdict(api.ErrSteps, 0)},
 		{"( ) " + most, verdict(api.ErrStack, api.MaxSteps)},
