@@ -361,6 +361,18 @@ func TestSentencesLimits(t *testing.T) {
 			t.Errorf("%d sentences of another sort: %d, %d", n, len(l), e)
 		}
 	}
+	for _, parts := range []string{"t t", "t t u", "u t t t"} { // 46 by 46 beginnings
+		g := grammarOf("s t u", "s s "+parts, "u u")
+		for i := range 46 {
+			g.Rules = append(g.Rules, Rule{Label: "t" + strconv.Itoa(i), Sort: "t", Parts: []Part{{Symbol: strconv.Itoa(i)}}})
+		}
+		if l, e := Sentences(g, "s", 3); e != api.ErrLarge || l != nil {
+			t.Errorf("many by one rule: %d, %d", len(l), e)
+		}
+		if l, e := Sentences(g, "s", 1); e != api.OK || l != nil {
+			t.Errorf("many that are too long: %d, %d", len(l), e)
+		}
+	}
 	nothing := grammarOf("s n", "s s"+strings.Repeat(" n", 200), "n n", "a n a")
 	if l, e := Sentences(nothing, "s", 12); len(l) != 13 || e != api.OK {
 		t.Errorf("200 parts that may be empty: %d, %d", len(l), e)

@@ -64,7 +64,7 @@ func (m changes) check(t api.Tree) api.Errno {
 // apply returns a tree under the changes, as new memory.
 func (m changes) apply(t api.Tree) api.Tree {
 	if x, ok := m[t.Label]; ok {
-		return changes{}.apply(x)
+		return copied(x)
 	}
 	result := api.Tree{Label: t.Label}
 	for _, k := range t.Kids {

@@ -2,7 +2,6 @@ package syntax
 
 import (
 	"iter"
-	"slices"
 
 	"apodixis/api"
 )
@@ -84,28 +83,42 @@ func nodes(t api.Tree) iter.Seq[node] {
 	}
 }
 
-// At returns the part of a tree at a path.
-func At(t api.Tree, path []int) (api.Tree, api.Errno) {
+// copied returns a tree as new memory.
+func copied(t api.Tree) api.Tree {
+	result := api.Tree{Label: t.Label}
+	for _, k := range t.Kids {
+		result.Kids = append(result.Kids, copied(k))
+	}
+	return result
+}
+
+// find returns the part of a tree at a path, in the tree's own memory.
+func find(t *api.Tree, path []int) (*api.Tree, bool) {
 	for _, i := range path {
 		if i < 0 || i >= len(t.Kids) {
-			return api.Tree{}, api.ErrNone
+			return nil, false
 		}
-		t = t.Kids[i]
+		t = &t.Kids[i]
 	}
-	return t, api.OK
+	return t, true
+}
+
+// At returns the part of a tree at a path.
+func At(t api.Tree, path []int) (api.Tree, api.Errno) {
+	part, ok := find(&t, path)
+	if !ok {
+		return api.Tree{}, api.ErrNone
+	}
+	return copied(*part), api.OK
 }
 
 // Put returns a tree with another part at a path.
 func Put(t api.Tree, path []int, part api.Tree) (api.Tree, api.Errno) {
-	if _, e := At(t, path); e != api.OK {
-		return api.Tree{}, e
+	result := copied(t)
+	at, ok := find(&result, path)
+	if !ok {
+		return api.Tree{}, api.ErrNone
 	}
-	result := t
-	at := &result
-	for _, i := range path {
-		at.Kids = slices.Clone(at.Kids)
-		at = &at.Kids[i]
-	}
-	*at = part
+	*at = copied(part)
 	return result, api.OK
 }

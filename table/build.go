@@ -18,7 +18,7 @@ type step struct {
 type builder struct {
 	rules   *rules
 	table   Table
-	numbers map[string]int // of states, by their texts
+	numbers map[string]int // of states, by the texts of the items whose closures they are
 	from    []Edge         // the edge by which each state was met
 }
 
@@ -50,19 +50,16 @@ building:
 	return true
 }
 
-// meet returns the number of the state with the closure of some items, and adds one that is new.
+// meet returns the number of the state that is the closure of some items, and adds one that is new. The items of an edge are those of the state whose dot is not at the beginning, so that they tell the state.
 func (b *builder) meet(kernel []Item, by Edge) (int, bool) {
-	state, ok := b.rules.closure(kernel)
-	if !ok {
-		return 0, false
-	}
-	text := written(state)
+	text := written(kernel)
 	n, known := b.numbers[text]
 	if known {
 		return n, true
 	}
 	n = len(b.table.States)
-	if n == maxBuilt {
+	state, ok := b.rules.closure(kernel)
+	if !ok || n == maxBuilt {
 		return 0, false
 	}
 	b.numbers[text] = n
@@ -71,10 +68,10 @@ func (b *builder) meet(kernel []Item, by Edge) (int, bool) {
 	return n, true
 }
 
-// written returns a text of a state, another one for each state.
-func written(state []Item) string {
+// written returns a text of items, another one for other items.
+func written(l []Item) string {
 	var s strings.Builder
-	for _, x := range state {
+	for _, x := range l {
 		s.WriteString(strconv.Itoa(x.Rule) + " " + strconv.Itoa(x.Dot) + " " + strconv.Quote(x.Next) + "\n")
 	}
 	return s.String()

@@ -73,14 +73,30 @@ func (r *rules) hasEdges(t Table) bool {
 		return false
 	}
 	needed := 0
+	kernels := map[int][]Item{} // of the states to which edges lead
 	for i, state := range t.States {
 		for s, kernel := range r.moves(state) {
 			to, ok := l[from{i, s}]
-			if !ok || to < 0 || to >= len(t.States) || !r.isClosure(kernel, t.States[to]) {
+			if !ok || to < 0 || to >= len(t.States) {
+				return false
+			}
+			if _, known := kernels[to]; !known {
+				kernels[to] = r.kernel(t.States[to])
+			}
+			if !slices.Equal(kernels[to], kernel) {
 				return false
 			}
 			needed++
 		}
 	}
 	return needed == len(l)
+}
+
+// kernel returns the items of a state whose dot is not at the beginning, as an edge moves them; nothing, if the state has more than their closure.
+func (r *rules) kernel(state []Item) []Item {
+	l := slices.DeleteFunc(slices.Clone(state), func(x Item) bool { return x.Dot == 0 })
+	if !r.isClosure(l, state) {
+		return nil
+	}
+	return l
 }
