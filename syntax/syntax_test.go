@@ -8,9 +8,11 @@ import (
 	"testing"
 
 	"apodixis/api"
+	"apodixis/certify"
 	"apodixis/frame"
 	"apodixis/grammar"
 	"apodixis/layout"
+	"apodixis/table"
 	"apodixis/verify"
 )
 
@@ -286,6 +288,34 @@ func TestThereAndBack(t *testing.T) {
 		back, f := Read(s)
 		if e != api.OK || f != api.OK || s != written(x) || !Equal(back, x) {
 			t.Fatalf("%q, %d, and back %s, %d", s, e, written(back), f)
+		}
+	}
+}
+
+// P5 of DOC.md: where the certificate is Unique, the parser of its table finds the one tree, or none.
+func TestOneTree(t *testing.T) {
+	r := rand.New(rand.NewSource(5))
+	db := database(t, logic)
+	g, _ := grammar.Of(db)
+	l, e := certify.All(g, 3)
+	if e != api.OK || len(l) != len(sortsOf) {
+		t.Fatalf("%v, %d", l, e)
+	}
+	for _, c := range l {
+		if c.Kind != certify.Unique || certify.Check(g, c) != api.OK {
+			t.Fatalf("the certificate of %s: %d", c.Sort, c.Kind)
+		}
+		for range 50 {
+			formula, _ := Text(db, random(r, c.Sort, 4))
+			if r.Intn(2) == 0 {
+				i, j := 1+r.Intn(len(formula)-1), 1+r.Intn(len(formula)-1)
+				formula[i], formula[j] = formula[j], formula[i]
+			}
+			x, e := Tree(db, formula)
+			y, _, f := table.Parse(g, c.Table, formula[1:])
+			if e == api.OK && (f != api.OK || !Equal(x, y)) || e != api.OK && (e != ErrParse || f != table.ErrParse) {
+				t.Fatalf("%q: %s, %d, by the table %s, %d", formula, written(x), e, written(y), f)
+			}
 		}
 	}
 }

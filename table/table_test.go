@@ -252,11 +252,17 @@ func TestCheckLimits(t *testing.T) {
 	}
 	twice := copied(x)
 	twice.Edges = slices.Repeat(twice.Edges, 20001/len(x.Edges)+1)
+	edge := func(e Edge) Table { return Table{"wff", x.States, append(slices.Clone(x.Edges), e)} }
 	for name, y := range map[string]struct {
 		t    Table
 		want api.Errno
 	}{
 		"itself":          {x, api.OK},
+		"a further edge":  {edge(Edge{0, "x", false, 0}), ErrTable},
+		"a further sort":  {edge(Edge{1, "wff", true, 0}), ErrTable},
+		"from nowhere":    {edge(Edge{-1, "ph", false, 0}), ErrTable},
+		"from beyond":     {edge(Edge{len(x.States), "ph", false, 0}), ErrTable},
+		"an empty symbol": {edge(Edge{0, "", false, 0}), ErrTable},
 		"1000 states":     {grown(1000), api.OK},
 		"1001 states":     {grown(1001), ErrTable},
 		"2000 items":      {items(2000), api.OK},
@@ -276,6 +282,16 @@ func TestCheckLimits(t *testing.T) {
 		if e := Check(g, y.t); e != y.want {
 			t.Errorf("%s: %d, want %d", name, e, y.want)
 		}
+	}
+	// A state that is its own closure, but has an item more than an edge leads to.
+	g = grammarOf("s n", "a s x", "n n")
+	x = built(t, g, "s")
+	x.States[1] = append(x.States[1], Item{1, 0, "z"})
+	if l, e := Closure(g, x.States[1]); e != api.OK || !slices.Equal(l, x.States[1]) {
+		t.Fatalf("%v, %d", l, e)
+	}
+	if e := Check(g, x); e != ErrTable {
+		t.Errorf("an item more: %d", e)
 	}
 }
 
