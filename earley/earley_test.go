@@ -112,7 +112,7 @@ func TestErrors(t *testing.T) {
 
 // P14.1: forests at their limits.
 func TestParseLimits(t *testing.T) {
-	// The sort s has an expression from each place to each one behind it, but of one way only.
+	// There is one expression from the beginning to each place, and one way to build it.
 	single := grammarOf("s", "a s a", "b s s a")
 	if f, e := Parse(single, "s", symbols("a", 200)); e != api.OK || len(f.Nodes) != 200 {
 		t.Errorf("%d nodes, %d", len(f.Nodes), e)
@@ -191,8 +191,8 @@ func TestCheck(t *testing.T) {
 		"one that is not ahead":  {Forest{[]Node{leaf(7)}}, api.OK},
 		"nodes to the limit":     {row, api.OK},
 		"too many nodes":         {longer, api.ErrSize},
-		"a node twice":           {Forest{longer.Nodes[api.MaxNodes-3:][2:]}, api.OK},
-		"a node twice, indeed":   {Forest{[]Node{leaf(0), leaf(0)}}, api.ErrForm},
+		"two nodes":              {Forest{[]Node{leaf(3), leaf(0)}}, api.OK},
+		"a node twice":           {Forest{[]Node{leaf(0), leaf(0)}}, api.ErrForm},
 		"a node without ways":    {Forest{[]Node{{"s", 0, 1, nil}}}, api.ErrForm},
 		"a way twice":            {Forest{[]Node{{"s", 0, 1, []Way{{0, nil}, {0, nil}}}}}, api.OK},
 		"no such rule":           {Forest{[]Node{{"s", 0, 1, []Way{{2, nil}}}}}, api.ErrForm},
@@ -227,7 +227,7 @@ func TestCheck(t *testing.T) {
 	}
 }
 
-// ladder returns a forest in which each node has two ways with the next one as both kids, or as the only one.
+// ladder returns a forest of n nodes with such ways, whose kids are all the next node, and a last one.
 func ladder(n int, ways ...Way) Forest {
 	var f Forest
 	for i := range n {
