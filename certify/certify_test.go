@@ -336,12 +336,125 @@ func TestSmallest(t *testing.T) {
 	if c, e := Certify(g, "s", 4); e != api.OK || !equal(c, Certificate{Sort: "s"}) {
 		t.Errorf("a deep tree and a wide one: %v, %d", c, e)
 	}
-	// Both trees of nothing have 200 by 200 nodes.
-	large := grammarOf("s n m", "p s"+strings.Repeat(" n", 200), "q s"+strings.Repeat(" n", 200), "n n"+strings.Repeat(" m", 200), "m m")
-	if text, a, b, e := Shortest(large, "s", 2); e != api.ErrLarge || text != nil || !isEmpty(a) || !isEmpty(b) {
-		t.Errorf("large trees: %q, %d", text, e)
+}
+
+// nested is a grammar in which nothing has two trees with so many kids each, down to so many levels: more than n to the power of levels nodes.
+func nested(n, levels int) grammar.Grammar {
+	g := grammar.Grammar{}
+	for i := range levels {
+		sort, next := "s"+strconv.Itoa(i), "s"+strconv.Itoa(i+1)
+		g.Sorts = append(g.Sorts, sort)
+		r := grammar.Rule{Label: "r" + strconv.Itoa(i), Sort: sort}
+		for arg := range n {
+			r.Parts = append(r.Parts, grammar.Part{Sort: next, Arg: arg})
+		}
+		g.Rules = append(g.Rules, r)
 	}
-	if c, e := Certify(large, "s", 2); e != api.OK || !equal(c, Certificate{Sort: "s"}) {
-		t.Errorf("large trees: %v, %d", c, e)
+	last := "s" + strconv.Itoa(levels)
+	g.Sorts = append(g.Sorts, last)
+	g.Rules = append(g.Rules, grammar.Rule{Label: "one", Sort: last}, grammar.Rule{Label: "two", Sort: last})
+	return g
+}
+
+// count returns the number of nodes of a tree.
+func count(t api.Tree) int {
+	n := 1
+	for _, k := range t.Kids {
+		n += count(k)
+	}
+	return n
+}
+
+// P16.3: of large trees that are not deep and small ones that are, a certificate has the small ones.
+func TestLargeAndDeep(t *testing.T) {
+	large := []string{"l l" + strings.Repeat(" m", 64), "k m" + strings.Repeat(" n", 64), "n n"} // 4161 nodes
+	// Each of the sorts below s has a large tree first, and a small one later.
+	g := grammarOf("s l m n", append(large, "small s")...)
+	g.Rules = append(g.Rules, grammar.Rule{Label: "deep", Sort: "s", Parts: []grammar.Part{{Sort: "c0"}}})
+	for i := range 28 {
+		sort, next := "c"+strconv.Itoa(i), "c"+strconv.Itoa(i+1)
+		g.Sorts = append(g.Sorts, sort)
+		down := grammar.Rule{Label: "down" + sort, Sort: sort, Parts: []grammar.Part{{Sort: next}}}
+		if i == 27 {
+			down.Parts = nil
+		}
+		g.Rules = append(g.Rules, down, grammar.Rule{Label: "large" + sort, Sort: sort, Parts: []grammar.Part{{Sort: "l"}}})
+	}
+	if c, e := Certify(g, "s", 0); e != api.OK || c.Kind != Ambiguous || count(c.A) != 1 || count(c.B) != 29 {
+		t.Errorf("a way down: the kind %d, %d and %d nodes, %d", c.Kind, count(c.A), count(c.B), e)
+	}
+	// The second tree of b is smaller than that of a.
+	g = grammarOf("s a b l m n", append(large, "top s a b", "a1 a", "a2 a l", "b1 b", "b2 b n n n n")...)
+	if c, e := Certify(g, "s", 0); e != api.OK || c.Kind != Ambiguous || count(c.A) != 3 || count(c.B) != 7 {
+		t.Errorf("two kids: the kind %d, %d and %d nodes, %d", c.Kind, count(c.A), count(c.B), e)
+	}
+}
+
+// P16.3: the smallest tree of a text is one node deeper than a certificate allows, or just as deep.
+func TestDeepest(t *testing.T) {
+	for _, last := range []int{23, 24} {
+		n := strings.Repeat(" n", 150)
+		g := grammarOf("s n", "wide s"+n+" x x x x", "wider s"+n+n[:20]+" x x x x", "n n")
+		g.Rules = append(g.Rules, grammar.Rule{Label: "first", Sort: "s", Parts: []grammar.Part{{Sort: "c0"}}})
+		for i := range last + 1 {
+			sort, next := "c"+strconv.Itoa(i), "c"+strconv.Itoa(i+1)
+			g.Sorts = append(g.Sorts, sort)
+			if i < last {
+				g.Rules = append(g.Rules, grammar.Rule{Label: sort, Sort: sort, Parts: []grammar.Part{{Sort: next}}})
+			}
+		}
+		sort := "c" + strconv.Itoa(last)
+		x := grammar.Part{Symbol: "x"}
+		g.Rules = append(g.Rules, grammar.Rule{Label: "end", Sort: sort, Parts: []grammar.Part{x}}, grammar.Rule{Label: "again", Sort: sort, Parts: []grammar.Part{{Sort: "c0"}, x}})
+		c, e := Certify(g, "s", 4)
+		if e != api.OK || c.Kind != Ambiguous || strings.Join(c.Text, " ") != "x x x x" || Check(g, c) != api.OK {
+			t.Errorf("%d sorts: %v, %d", last, c, e)
+		}
+		if isDeep := last == 24; isDeep != (c.A.Label == "wide") || isDeep != (c.B.Label == "wider") {
+			t.Errorf("%d sorts: %s and %s", last, c.A.Label, c.B.Label)
+		}
+	}
+}
+
+// P16.1 and P16.3: trees of any size are two trees of a text, but in a certificate only such with at most MaxNodes nodes.
+func TestShortestOfLargeTrees(t *testing.T) {
+	for _, x := range []struct{ n, levels, nodes, kind int }{
+		{1, 1, 2, Ambiguous}, {62, 2, 3907, Ambiguous}, {63, 2, 4033, Unknown}, {64, 2, 4161, Unknown}, {200, 2, 40201, Unknown}, {200, 1, 201, Ambiguous}, {15, 3, 3616, Ambiguous}, {70, 3, 347971, Unknown},
+	} {
+		g := nested(x.n, x.levels)
+		text, a, b, e := Shortest(g, "s0", 0)
+		if e != api.OK || len(text) > 0 || count(a) != x.nodes || count(b) != x.nodes || same(a, b) {
+			t.Errorf("%d by %d: %q, %d and %d nodes, %d", x.n, x.levels, text, count(a), count(b), e)
+		}
+		c, e := Certify(g, "s0", 0)
+		if e != api.OK || c.Kind != x.kind || Check(g, c) != api.OK || x.kind == Unknown && !equal(c, Certificate{Sort: "s0"}) {
+			t.Errorf("%d by %d: the kind %d, %d", x.n, x.levels, c.Kind, e)
+		}
+	}
+	// Of a small tree and a large one: MaxNodes is reached exactly, and passed by one.
+	for n, kind := range map[int]int{19: Ambiguous, 20: Unknown} {
+		large := grammarOf("s n m", "p s", "q s"+strings.Repeat(" n", 20)+strings.Repeat(" m", n), "n n"+strings.Repeat(" m", 198), "m m")
+		_, a, b, e := Shortest(large, "s", 2)
+		if e != api.OK || count(a) != 1 || count(b) != 3981+n || same(a, b) {
+			t.Errorf("%d leaves: %d and %d nodes, %d", n, count(a), count(b), e)
+		}
+		if c, e := Certify(large, "s", 2); e != api.OK || c.Kind != kind {
+			t.Errorf("%d leaves: the kind %d, %d", n, c.Kind, e)
+		}
+	}
+	// Both trees have just as many nodes as a certificate allows.
+	both := grammarOf("s n m", "p s"+strings.Repeat(" n", 20)+strings.Repeat(" m", 19), "q s"+strings.Repeat(" n", 20)+strings.Repeat(" m", 19), "n n"+strings.Repeat(" m", 198), "m m")
+	if c, e := Certify(both, "s", 2); e != api.OK || c.Kind != Ambiguous || count(c.A) != api.MaxNodes || count(c.B) != api.MaxNodes {
+		t.Errorf("%d and %d nodes: the kind %d, %d", count(c.A), count(c.B), c.Kind, e)
+	}
+	// More than 2^31 - 1 bytes, also where the numbers would overflow.
+	for _, levels := range []int{4, 8, 9, 31} {
+		g := nested(200, levels)
+		if text, a, b, e := Shortest(g, "s0", 0); e != api.ErrLarge || text != nil || !isEmpty(a) || !isEmpty(b) {
+			t.Errorf("%d levels: %q, %d and %d nodes, %d", levels, text, count(a), count(b), e)
+		}
+		if c, e := Certify(g, "s0", 0); e != api.OK || !equal(c, Certificate{Sort: "s0"}) {
+			t.Errorf("%d levels: the kind %d, %d", levels, c.Kind, e)
+		}
 	}
 }

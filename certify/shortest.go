@@ -8,6 +8,9 @@ import (
 	"apodixis/grammar"
 )
 
+// maxNodes is how many nodes two trees may have together, of 40 bytes each: of a result with more than 2^31 - 1 bytes the document promises nothing. No other limit holds for trees that are in no certificate.
+const maxNodes = (1<<31 - 1) / 40
+
 // Shortest returns the first text, by length and then symbol by symbol, that has two trees.
 func Shortest(g grammar.Grammar, sort string, most int) (text []string, a, b api.Tree, e api.Errno) {
 	if e := grammar.Check(g); e != api.OK {
@@ -16,18 +19,27 @@ func Shortest(g grammar.Grammar, sort string, most int) (text []string, a, b api
 	if most < 0 || most > maxMost {
 		return nil, api.Tree{}, api.Tree{}, api.ErrRange
 	}
-	texts, e := grammar.Sentences(g, sort, most)
+	text, p, e := shortest(g, sort, most)
 	if e != api.OK {
 		return nil, api.Tree{}, api.Tree{}, e
 	}
-	for text, f := range ambiguous(g, sort, texts) {
-		a, b, ok := smallest(g, f)
-		if !ok {
-			return nil, api.Tree{}, api.Tree{}, api.ErrLarge
-		}
-		return text, a, b, api.OK
+	return text, built(g, p[0]), built(g, p[1]), api.OK
+}
+
+// shortest returns the first text that has two trees, and two of them, which are not built yet.
+func shortest(g grammar.Grammar, sort string, most int) ([]string, [2]*plan, api.Errno) {
+	texts, e := grammar.Sentences(g, sort, most)
+	if e != api.OK {
+		return nil, [2]*plan{}, e
 	}
-	return nil, api.Tree{}, api.Tree{}, api.ErrNone
+	for text, f := range ambiguous(g, sort, texts) {
+		p := smallest(f)
+		if len(p) < 2 || p[0].nodes+p[1].nodes > maxNodes {
+			return nil, [2]*plan{}, api.ErrLarge
+		}
+		return text, [2]*plan{p[0], p[1]}, api.OK
+	}
+	return nil, [2]*plan{}, api.ErrNone
 }
 
 // ambiguous yields those of some texts that have two trees or more, with their forests.
@@ -53,8 +65,8 @@ type plan struct {
 	kids  []*plan
 }
 
-// smallest returns two different trees of a forest, the smallest ones that are not too deep. Where there are no such two it goes deeper; false, if all but one are too large.
-func smallest(g grammar.Grammar, f earley.Forest) (a, b api.Tree, ok bool) {
+// smallest returns two different trees of a forest, the smallest ones that are not too deep. Where there are no such two it goes deeper; it returns fewer, if all others are too large.
+func smallest(f earley.Forest) []*plan {
 	// The plans of the round n are the two smallest trees of each node of a depth of at most n.
 	plans := make([][]*plan, len(f.Nodes))
 growing:
@@ -70,10 +82,7 @@ growing:
 			break growing
 		}
 	}
-	if len(plans[0]) < 2 {
-		return api.Tree{}, api.Tree{}, false
-	}
-	return built(g, plans[0][0]), built(g, plans[0][1]), true
+	return plans[0]
 }
 
 func sameSizes(a, b []*plan) bool {
@@ -122,12 +131,12 @@ func planned(w earley.Way, plans [][]*plan) (*plan, bool) {
 		p.nodes += plans[k][0].nodes
 		p.kids = append(p.kids, plans[k][0])
 	}
-	return p, p.nodes <= api.MaxNodes
+	return p, p.nodes <= maxNodes
 }
 
 // insert returns the two smallest of at most two trees in order and a further one.
 func insert(l []*plan, p *plan) []*plan {
-	if p.nodes > api.MaxNodes {
+	if p.nodes > maxNodes {
 		return l
 	}
 	at := 0
@@ -142,6 +151,9 @@ func insert(l []*plan, p *plan) []*plan {
 // built returns the tree of a plan.
 func built(g grammar.Grammar, p *plan) api.Tree {
 	t := api.Tree{Label: g.Rules[p.rule].Label}
+	if len(p.kids) > 0 {
+		t.Kids = make([]api.Tree, 0, len(p.kids)) // not longer, as there may be many
+	}
 	for _, k := range p.kids {
 		t.Kids = append(t.Kids, built(g, k))
 	}
