@@ -1,4 +1,4 @@
-// Package book has what several layers need to work on one database: the trees of its formulas, each formula parsed once, and steps of proofs, of which equal ones are one. What it returns is not to be changed.
+// Package book has what several layers need to work on one database: the trees of its formulas, each formula parsed once, and steps of proofs, of which equal ones are one. What a Book returns is not to be changed.
 package book
 
 import (
@@ -15,6 +15,7 @@ type Book struct {
 	Database api.Database
 	Grammar  grammar.Grammar
 	rules    map[string]grammar.Rule
+	labels   map[string]string // those of the variables' rules, by the variables
 	small    api.Database
 	known    map[string]reading
 }
@@ -31,9 +32,12 @@ func Open(db api.Database) (*Book, api.Errno) {
 	if e != api.OK {
 		return nil, e
 	}
-	b := &Book{Database: db, Grammar: g, rules: map[string]grammar.Rule{}, known: map[string]reading{}}
+	b := &Book{Database: db, Grammar: g, rules: map[string]grammar.Rule{}, labels: map[string]string{}, known: map[string]reading{}}
 	for _, r := range g.Rules {
 		b.rules[r.Label] = r
+		if r.Variable {
+			b.labels[r.Parts[0].Symbol] = r.Label
+		}
 	}
 	b.small = b.Part(nil)
 	return b, api.OK
@@ -82,6 +86,19 @@ func key(formula []string) string {
 func (b *Book) Rule(label string) (grammar.Rule, bool) {
 	r, ok := b.rules[label]
 	return r, ok
+}
+
+// LabelOf returns the label of a variable.
+func (b *Book) LabelOf(variable string) string { return b.labels[variable] }
+
+// Permitted returns the disjoint pairs of a theorem of the database, each by its labels in their order.
+func (b *Book) Permitted(theorem api.Frame) map[api.Pair]bool {
+	l := map[api.Pair]bool{}
+	for _, p := range theorem.Wide {
+		x, y := b.labels[p.A], b.labels[p.B]
+		l[api.Pair{A: min(x, y), B: max(x, y)}] = true
+	}
+	return l
 }
 
 // IsVariable reports whether a label is that of a variable.

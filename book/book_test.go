@@ -134,3 +134,48 @@ func TestSteps(t *testing.T) {
 		t.Errorf("%v, %t", p, ok)
 	}
 }
+
+// R4: copies are equal, and no memory is shared.
+func TestCopies(t *testing.T) {
+	x := api.Tree{Label: "wi", Kids: []api.Tree{{Label: "wph"}, {Label: "wn", Kids: []api.Tree{{Label: "wps"}}}}}
+	y := Copy(x)
+	if !syntax.Equal(x, y) {
+		t.Errorf("%v", y)
+	}
+	y.Kids[1].Kids[0].Label, y.Kids[0].Label = "no", "no"
+	if x.Kids[1].Kids[0].Label != "wps" || x.Kids[0].Label != "wph" {
+		t.Errorf("%v", x)
+	}
+	const apart = "${ $d x ph $. ${ $d y ps $. e2 $e |- ( ph -> A. x ph ) $. last $p |- ps $= ? ? $. $} $}"
+	db, other := database(t, logic+apart), database(t, logic+apart)
+	copied := CopyDatabase(db)
+	if !frame.Equal(db, copied) || !frame.Equal(CopyDatabase(api.Database{}), api.Database{}) {
+		t.Errorf("%v", copied)
+	}
+	f := &copied.Frames[len(copied.Frames)-1]
+	f.Hyps[0].Text[0], f.Dummies[0].Text[0], f.Text[0], f.Proof[0] = "no", "no", "no", "no"
+	f.Hyps[0].Label, f.Dummies[0].Label, f.Apart[0].A, f.Wide[0].A = "no", "no", "no", "no"
+	copied.Constants[0], copied.Variables[0], copied.Frames[0].Label = "no", "no", "no"
+	if !frame.Equal(db, other) {
+		t.Errorf("%v", db)
+	}
+}
+
+// What a database and its assertions have: the turnstile, premises, and the labels of disjoint pairs.
+func TestParts(t *testing.T) {
+	db := database(t, logic+"${ $d x ph $. ${ $d y ps $. e2 $e |- ( ph -> A. x ph ) $. e3 $e wff ps $. last $p |- ps $= ? $. $} $}")
+	b, e := Open(db)
+	last := db.Frames[len(db.Frames)-1]
+	if l := Premises(last); e != api.OK || len(l) != 2 || l[0].Label != "e2" || l[1].Label != "e3" || !IsAsserted(l[0].Text) || IsAsserted(l[1].Text) || !HasOther(last) {
+		t.Errorf("%v, %d", l, e)
+	}
+	if wno := db.Frames[frame.Find(db, "wno")]; HasOther(wno) || len(Premises(wno)) != 1 || HasOther(db.Frames[0]) || len(Premises(db.Frames[0])) > 0 {
+		t.Errorf("%v", Premises(wno))
+	}
+	if l := b.Permitted(last); len(l) != 2 || !l[api.Pair{A: "vx", B: "wph"}] || !l[api.Pair{A: "vy", B: "wps"}] || len(b.Permitted(db.Frames[0])) > 0 {
+		t.Errorf("%v", l)
+	}
+	if b.LabelOf("x") != "vx" || b.LabelOf("ps") != "wps" || b.LabelOf("T.") != "" {
+		t.Error("labels")
+	}
+}

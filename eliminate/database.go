@@ -185,22 +185,3 @@ func (x *rewriter) hyps(f api.Frame, mandatory map[string]bool) iter.Seq2[api.Hy
 		}
 	}
 }
-
-// copied returns a database as new memory.
-func copied(db api.Database) api.Database {
-	hyps := func(l []api.Hyp) []api.Hyp {
-		l = slices.Clone(l)
-		for i := range l {
-			l[i].Text = slices.Clone(l[i].Text)
-		}
-		return l
-	}
-	result := api.Database{Constants: slices.Clone(db.Constants), Variables: slices.Clone(db.Variables)}
-	for _, f := range db.Frames {
-		f.Hyps, f.Dummies = hyps(f.Hyps), hyps(f.Dummies)
-		f.Apart, f.Wide = slices.Clone(f.Apart), slices.Clone(f.Wide)
-		f.Text, f.Proof = slices.Clone(f.Text), slices.Clone(f.Proof)
-		result.Frames = append(result.Frames, f)
-	}
-	return result
-}

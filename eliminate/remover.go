@@ -98,7 +98,7 @@ func (x remover) reduced(t api.Tree) measured {
 // filled returns a part of the right side with trees in the place of the arguments.
 func (x remover) filled(t api.Tree, kids map[string]api.Tree) api.Tree {
 	if k, ok := kids[t.Label]; ok {
-		return copyOf(k)
+		return book.Copy(k)
 	}
 	if label, ok := x.given[t.Label]; ok {
 		return api.Tree{Label: label}
@@ -106,15 +106,6 @@ func (x remover) filled(t api.Tree, kids map[string]api.Tree) api.Tree {
 	result := api.Tree{Label: t.Label}
 	for _, k := range t.Kids {
 		result.Kids = append(result.Kids, x.filled(k, kids))
-	}
-	return result
-}
-
-// copyOf returns a tree as new memory.
-func copyOf(t api.Tree) api.Tree {
-	result := api.Tree{Label: t.Label}
-	for _, k := range t.Kids {
-		result.Kids = append(result.Kids, copyOf(k))
 	}
 	return result
 }

@@ -33,8 +33,7 @@ type solver struct {
 	goal    api.Tree
 	values  map[string]api.Tree // of the work variables
 
-	labels    map[string]string  // of the variables
-	permitted map[[2]string]bool // the theorem's disjoint pairs, by their labels
+	permitted map[api.Pair]bool // the theorem's disjoint pairs
 }
 
 // solve returns a solver that has found all values.
@@ -68,17 +67,7 @@ func solve(db api.Database, i int, l []Line) (*solver, api.Errno) {
 }
 
 func newSolver(b *book.Book, theorem api.Frame) *solver {
-	x := &solver{Book: b, theorem: theorem, values: map[string]api.Tree{}, labels: map[string]string{}, permitted: map[[2]string]bool{}}
-	for _, r := range b.Grammar.Rules {
-		if r.Variable {
-			x.labels[r.Parts[0].Symbol] = r.Label
-		}
-	}
-	for _, p := range theorem.Wide {
-		a, b := x.labels[p.A], x.labels[p.B]
-		x.permitted[[2]string{min(a, b), max(a, b)}] = true
-	}
-	return x
+	return &solver{Book: b, theorem: theorem, values: map[string]api.Tree{}, permitted: b.Permitted(theorem)}
 }
 
 // check returns the error of the lines of a theorem.
@@ -87,14 +76,14 @@ func check(db api.Database, i int, l []Line) (e api.Errno) {
 		return api.ErrSize
 	}
 	counts := map[string]int{} // of the premises, by the labels that lines may have
-	for _, h := range premises(db.Frames[i]) {
-		if isAsserted(h.Text) {
+	for _, h := range book.Premises(db.Frames[i]) {
+		if book.IsAsserted(h.Text) {
 			counts[h.Label] = 0
 		}
 	}
 	for _, f := range db.Frames[:i] {
-		if isAsserted(f.Text) && !hasOther(f) {
-			counts[f.Label] = len(premises(f))
+		if book.IsAsserted(f.Text) && !book.HasOther(f) {
+			counts[f.Label] = len(book.Premises(f))
 		}
 	}
 checking:
@@ -158,7 +147,7 @@ func (x *solver) readRow(r *row, from func(count int) int) (e api.Errno) {
 		return e
 	}
 	r.frame = x.small.Frames[number]
-	count := len(r.frame.Hyps) - len(premises(r.frame))
+	count := len(r.frame.Hyps) - len(book.Premises(r.frame))
 	r.hyps, r.tree, r.works, e = unify.Fresh(x.small, number, from(count))
 	return e
 }
@@ -222,14 +211,14 @@ func (x *solver) isLong(t api.Tree) bool {
 func (x *solver) apart(r row) api.Errno {
 	var pairs []api.Pair
 	for _, p := range r.frame.Apart {
-		pairs = append(pairs, api.Pair{A: x.labels[p.A], B: x.labels[p.B]})
+		pairs = append(pairs, api.Pair{A: x.LabelOf(p.A), B: x.LabelOf(p.B)})
 	}
 	required, e := unify.Apart(x.small, x.substitution(r), pairs)
 	if isCode(e, api.ErrApart) {
 		return api.ErrApart
 	}
 	for _, p := range required {
-		if !x.permitted[[2]string{p.A, p.B}] {
+		if !x.permitted[p] {
 			return api.ErrApart
 		}
 	}
