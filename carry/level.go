@@ -29,7 +29,8 @@ func (c *carrier) proofOf(label string) proof {
 	g, e := graph.Of(db, n)
 	if e != api.OK {
 		v, _ := verify.Theorem(db, n)
-		fault.Raise(v.Code)
+		fault.Pass(v.Code)
+		fault.Pass(e)
 	}
 	p := proof{steps: g.Steps}
 	for _, x := range g.Steps {

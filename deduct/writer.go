@@ -43,10 +43,14 @@ func (w *writer) behind(f natural.Formula, line int) int {
 	return w.mp(line, w.axiom(simp, w.lines[line].Formula, f))
 }
 
-// put appends a list of lines, and returns the number of its last one.
+// put appends a list of lines, which nothing else has, and returns the number of its last one.
 func (w *writer) put(lines []Line) int {
 	shift := len(w.lines)
 	fault.Require(shift+len(lines) <= api.MaxSteps, api.ErrLarge)
+	if shift == 0 {
+		w.lines = lines
+		return len(lines) - 1
+	}
 	for _, x := range lines {
 		w.lines = append(w.lines, x.moved(func(from int) int { return from + shift }))
 	}
