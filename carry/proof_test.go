@@ -6,6 +6,7 @@ import (
 	"testing"
 
 	"apodixis/api"
+	"apodixis/compress"
 	"apodixis/frame"
 	"apodixis/natural"
 	"apodixis/syntax"
@@ -315,6 +316,105 @@ func TestDoubling(t *testing.T) {
 		}
 		if want, e := proofModel(db, l, i); e != api.OK || !sameCarried(c, want) {
 			t.Errorf("%d: %v, want %v, %d", n, c, want, e)
+		}
+	}
+}
+
+// P26.1: Mp in the other order: its premises are made in the order of its hypotheses.
+func TestOtherOrder(t *testing.T) {
+	const mp, other = "m $e |- p $. j $e |- ( p -> q ) $. mp $a |- q $.", "j $e |- ( p -> q ) $. m $e |- p $. mp $a |- q $."
+	const th = "tt $a |- T. $. imp $a |- ( T. -> T. ) $. un $p |- ( T. -> T. ) $= ? $. ${ k $e |- p $. keep $a |- T. $. $} th $p |- T. $= wt wt imp tt mp $. bad $p |- T. $= wt wt un wt tt keep mp $."
+	db := database(t, replaced(t, whole, mp, other)+th)
+	for label, want := range map[string]api.Errno{"th": api.OK, "bad": api.ErrUnknown} {
+		i := frame.Find(db, label)
+		c, e := Proof(db, full(), i)
+		if model, wrong := proofModel(db, full(), i); e != want || wrong != want || !sameCarried(c, model) {
+			t.Errorf("%s: %v, %d, want %v, %d", label, c, e, model, wrong)
+		}
+		if e != api.OK {
+			continue
+		}
+		accepted(t, c)
+		if got := written(t, c); got != "wt ; imp $> wt wt ; tt wt" || c.Derivation.Kids[0].Index != 0 || c.Derivation.Kids[1].Index != 1 {
+			t.Errorf("%q: %v", got, c.Derivation)
+		}
+	}
+}
+
+// P26.1: trees of steps as large and as deep as may be, and larger ones, with translations and without.
+func TestStepTrees(t *testing.T) {
+	s := replaced(t, terms, "R $.", "R cls none $.", "u $.", "u C $.", "tu $f term u $.", "tu $f term u $. cC $f cls C $.") + "te $a term $. tp $a term s t $. ce $a cls $. cp $a cls C s $. wT $a wff none $. " +
+		"${ e1 $e |- none $. e2 $e |- P s $. bar $a |- none $. e3 $e |- C none $. baz $a |- none $. $} ax $a |- P s $. ac $a |- C none $. an $a |- none $. th $p |- none $= an $. "
+	// sized returns the steps of a term with n nodes, each as a step.
+	var list []api.Step
+	var sized func(n int) int
+	sized = func(n int) int {
+		x := api.Step{Label: "te"}
+		switch {
+		case n == 1:
+		case n%2 == 0:
+			x = api.Step{Label: "suc", Args: []int{sized(n - 1)}}
+		default:
+			half := sized((n - 1) / 2)
+			x = api.Step{Label: "tp", Args: []int{half, half}}
+		}
+		list = append(list, x)
+		return len(list) - 1
+	}
+	tower := func(depth int) int {
+		list = append(list, api.Step{Label: "zero"})
+		for range depth - 1 {
+			list = append(list, api.Step{Label: "suc", Args: []int{len(list) - 1}})
+		}
+		return len(list) - 1
+	}
+	add := func(label string, args ...int) int {
+		list = append(list, api.Step{Label: label, Args: args})
+		return len(list) - 1
+	}
+	for name, x := range map[string]struct {
+		term  func() int
+		class bool // also one without a translation, around it
+		want  api.Errno
+	}{
+		"1000 nodes":                 {func() int { return sized(1000) }, false, ErrRule},
+		"4000 nodes":                 {func() int { return sized(4000) }, false, ErrRule},
+		"4001 nodes":                 {func() int { return sized(4001) }, false, api.ErrLarge},
+		"the depth 100":              {func() int { return tower(100) }, false, ErrRule},
+		"the depth 101":              {func() int { return tower(101) }, false, api.ErrLarge},
+		"the depth 200":              {func() int { return tower(200) }, false, api.ErrLarge},
+		"no translation":             {func() int { return sized(100) }, true, ErrSyntax},
+		"none, and very large":       {func() int { return sized(3999) }, true, api.ErrLarge}, // with what is around it
+		"none, and as large":         {func() int { return sized(3998) }, true, ErrSyntax},
+		"the first of two":           {func() int { return tower(101) }, true, api.ErrLarge},
+		"none, and very deep inside": {func() int { return tower(100) }, true, ErrSyntax},
+	} {
+		list = nil
+		db := database(t, s)
+		n := x.term()
+		premise := add("an")
+		second := add("ax", n)
+		last := 0
+		if x.class {
+			around := add("cp", n, add("ce"))
+			third := add("ac", around)
+			last = add("baz", n, around, premise, second, third)
+		} else {
+			last = add("bar", n, premise, second)
+		}
+		i := frame.Find(db, "th")
+		words, e := compress.Proof(db, i, api.Proof{Steps: list[:last+1]})
+		if e != api.OK {
+			t.Fatalf("%s: %d", name, e)
+		}
+		db.Frames[i].Proof = words
+		l := Logic{Set: "term", Imp: "wi", Eq: "weq", Mp: "mp"}
+		c, e := Proof(db, l, i)
+		if e != x.want || !isZero(c.Conclusion) {
+			t.Errorf("%s: %d, want %d", name, e, x.want)
+		}
+		if _, wrong := proofModel(db, l, i); wrong != x.want {
+			t.Errorf("%s: the model: %d, want %d", name, wrong, x.want)
 		}
 	}
 }

@@ -123,7 +123,7 @@ func (p *parser) term(t *Term) bool {
 // formula reads the first word of a formula, and adds the tasks of what follows it.
 func (p *parser) formula(f *Formula) bool {
 	if name, ok := p.name(); ok {
-		*f = Formula{Kind: Atom, Name: name}
+		*f = atom{name: name}.formula()
 		if p.has(opening) {
 			p.do(task{kind: readArgs, args: &f.Terms})
 		}
