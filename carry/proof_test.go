@@ -181,15 +181,19 @@ const dummies = "$c wff |- set cls ( ) -> A. = &2 F. $. $v p x &4 y &03 q C $. w
 	"wi $a wff ( p -> q ) $. wal $a wff A. x p $. weq $a wff x = y $. wf $a wff F. $. " + rules +
 	"a1 $a |- ( p -> ( q -> p ) ) $. sp $a |- ( A. x p -> p ) $. own $a |- ( x = x -> F. ) $. self $a |- x = x $. any $a |- ( q -> y = y ) $. " +
 	"bad $p |- F. $= vx vx weq wf vx self vx own mp $. " + // x is a dummy
-	"two $p |- ( F. -> F. ) $= wf wf wf wi bad wf wf a1 mp $. again $p |- F. $= wf wf bad two mp $. third $p |- F. $= wf wf again two mp $. "
+	"two $p |- ( F. -> F. ) $= wf wf wf wi bad wf wf a1 mp $. again $p |- F. $= wf wf bad two mp $. third $p |- F. $= wf wf again two mp $. " +
+	"bad4 $p |- F. $= v4 v4 weq wf v4 self v4 own mp $. two4 $p |- ( F. -> F. ) $= wf wf wf wi bad4 wf wf a1 mp $. " +
+	"bady $p |- F. $= vy vy weq wf vy self vy own mp $. twoy $p |- ( F. -> F. ) $= wf wf wf wi bady wf wf a1 mp $. "
 
 // P26.1: what dummies become: names, which are spent whether they are needed or not, and leave symbols out.
 func TestDummies(t *testing.T) {
 	db := database(t, dummies)
 	l := Logic{Set: "set", Imp: "wi", All: "wal", Eq: "weq", Mp: "mp", Gen: "gen", Simp: "a1", Spec: "sp"}
 	for label, want := range map[string]string{
-		"bad":   "x x",                   // its own variables are parameters
-		"two":   "&1 &1",                 // those of bad are &1, &3, &5 and &6
+		"bad":   "x x",   // its own variables are parameters
+		"two":   "&1 &1", // those of bad are &1, &3, &5 and &6
+		"two4":  "&3 &3",
+		"twoy":  "&5 &5",
 		"again": "&11 &11 &1 &1",         // those of bad, of two, and of the bad of this
 		"third": "&23 &23 &15 &15 &7 &7", // those of again stand ahead of those of its bad
 	} {
@@ -228,10 +232,9 @@ func TestFalseDummies(t *testing.T) {
 	}
 }
 
-// ladder returns theorems of T., each of which has more nodes than the one before: by two (a), by five (b), or twice as many and three (c); the first one has one node.
-func ladder(steps string) string {
-	s := whole + further + "imp $a |- ( T. -> T. ) $. sq $a |- ( T. -> ( T. -> T. ) ) $. "
-	last := "tt"
+// ladder returns theorems of T., each of which has more nodes than the one before: by two (a), by five (b), or twice as many and three (c); the first one is tt, which has one node, or four, which has four.
+func ladder(last, steps string) string {
+	s := whole + further + "imp $a |- ( T. -> T. ) $. sq $a |- ( T. -> ( T. -> T. ) ) $. eqt $a |- ( x = x -> T. ) $. four $p |- T. $= vx vx weq wt vx id vx eqt mp $. "
 	for n, step := range steps {
 		label := "s" + itoa(n)
 		s += label + " $p |- T. $= " + map[rune]string{
@@ -261,16 +264,28 @@ func to(n int) string {
 // P26.1: 8000 nodes, and more; the depth 1000, and a greater one.
 func TestProofLimits(t *testing.T) {
 	for n, want := range map[int]api.Errno{1: api.OK, 3: api.OK, 6: api.OK, 1000: api.OK, 7999: api.OK, 8000: api.OK, 8001: api.ErrLarge, 8002: api.ErrLarge, 80000: api.ErrLarge, 1 << 40: api.ErrLarge} {
-		db := database(t, ladder(to(n)))
+		db := database(t, ladder("tt", to(n)))
 		c, e := Proof(db, full(), frame.Find(db, "th"))
 		nodes, _ := natural.Size(c.Derivation)
 		if e != want || e == api.OK && nodes != n {
 			t.Errorf("%d nodes: %d, %d, want %d", n, nodes, e, want)
 		}
 	}
+	// With AllOuts: four has one, and "c" makes 11 nodes of its four.
+	for steps, want := range map[string]api.Errno{to(8000): api.OK, to(7995) + "aa": api.OK, to(7995) + "aaa": api.ErrLarge} {
+		rest, ok := strings.CutPrefix(steps, to(11))
+		if !ok {
+			t.Fatal(steps)
+		}
+		db := database(t, ladder("four", "c"+rest))
+		c, e := Proof(db, full(), frame.Find(db, "th"))
+		if nodes, _ := natural.Size(c.Derivation); e != want || e == api.OK && nodes < 7999 {
+			t.Errorf("%s: %d nodes with AllOuts, %d, want %d", steps, nodes, e, want)
+		}
+	}
 	// An unknown step behind 7997 nodes, which a Mp and its first premise come to, and behind 7999.
 	for n, want := range map[int]api.Errno{7999: api.ErrUnknown, 8000: api.ErrLarge} {
-		db := database(t, ladder(to(n))+"un $p |- ( T. -> T. ) $= ? $. last $p |- T. $= wt wt th un mp $.")
+		db := database(t, ladder("tt", to(n))+"un $p |- ( T. -> T. ) $= ? $. last $p |- T. $= wt wt th un mp $.")
 		if _, e := Proof(db, full(), frame.Find(db, "last")); e != want {
 			t.Errorf("an unknown step behind %d nodes and one: %d, want %d", n, e, want)
 		}
@@ -278,7 +293,7 @@ func TestProofLimits(t *testing.T) {
 	step := "${ rh $e |- T. $. r1 $p |- T. $= wt wt rh imp mp $. r10 $p |- T. $= rh" + strings.Repeat(" r1", 10) + " $. r100 $p |- T. $= rh" + strings.Repeat(" r10", 10) + " $. $} "
 	for depth, want := range map[int]api.Errno{999: api.OK, 1000: api.OK, 1001: api.ErrLarge, 1100: api.ErrLarge} {
 		n := depth - 1
-		db := database(t, ladder("")+step+"deep $p |- T. $= tt"+strings.Repeat(" r100", n/100)+strings.Repeat(" r10", n/10%10)+strings.Repeat(" r1", n%10)+" $. ")
+		db := database(t, ladder("tt", "")+step+"deep $p |- T. $= tt"+strings.Repeat(" r100", n/100)+strings.Repeat(" r10", n/10%10)+strings.Repeat(" r1", n%10)+" $. ")
 		c, e := Proof(db, full(), frame.Find(db, "deep"))
 		if _, got := natural.Size(c.Derivation); e != want || e == api.OK && got != depth {
 			t.Errorf("the depth %d: %d, %d, want %d", depth, got, e, want)
